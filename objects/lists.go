@@ -6,6 +6,7 @@ import (
 	"slices"
 
 	"folkmoot/api"
+	"folkmoot/lists"
 )
 
 // none is the place of what is not there.
@@ -72,30 +73,8 @@ func tableOrder(a, b api.Table) int {
 
 func ruleOrder(a, b api.Rule) int { return cmp.Compare(a.Name, b.Name) }
 
-// rise answers whether a list rises in that order: no two of it are alike.
-func rise[T any](list []T, order func(a, b T) int) bool {
-	for i := range len(list) - 1 {
-		if order(list[i], list[i+1]) >= 0 {
-			return false
-		}
-	}
-	return true
-}
-
-// insert answers a list that rises with x at its place. The list's own memory may be written into.
-func insert[T any](list []T, x T, order func(a, b T) int) []T {
-	at, _ := slices.BinarySearchFunc(list, x, order)
-	return slices.Insert(list, at, x)
-}
-
-// without answers the list without the one at that place, in new memory.
-func without[T any](list []T, at int) []T { return slices.Concat(list[:at], list[at+1:]) }
-
-// copyList answers the list in new memory; like without, nil for none, so that nothing tells what was added and dropped again.
-func copyList[T any](list []T) []T { return slices.Concat(list) }
-
 func copyObjects(o api.Objects) api.Objects {
-	o.Schemas, o.Tables = copyList(o.Schemas), copyList(o.Tables)
+	o.Schemas, o.Tables = lists.Copy(o.Schemas), lists.Copy(o.Tables)
 	for i, t := range o.Tables {
 		o.Tables[i] = copyTable(t)
 	}
@@ -103,7 +82,7 @@ func copyObjects(o api.Objects) api.Objects {
 }
 
 func copyTable(t api.Table) api.Table {
-	t.Columns, t.Rules = copyList(t.Columns), copyList(t.Rules)
+	t.Columns, t.Rules = lists.Copy(t.Columns), lists.Copy(t.Rules)
 	for i, r := range t.Rules {
 		t.Rules[i] = copyRule(r)
 	}
@@ -111,6 +90,6 @@ func copyTable(t api.Table) api.Table {
 }
 
 func copyRule(r api.Rule) api.Rule {
-	r.Columns = copyList(r.Columns)
+	r.Columns = lists.Copy(r.Columns)
 	return r
 }

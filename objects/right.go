@@ -4,24 +4,12 @@ import (
 	"slices"
 
 	"folkmoot/api"
+	"folkmoot/lists"
+	"folkmoot/names"
 )
 
 // Name is P7.1.
-func Name(s string) bool {
-	if len(s) == 0 || len(s) > api.MaxName || !isLetter(s[0]) {
-		return false
-	}
-	for i := range len(s) {
-		if !isLetter(s[i]) && !isDigit(s[i]) && s[i] != '_' {
-			return false
-		}
-	}
-	return true
-}
-
-func isLetter(b byte) bool { return 'a' <= b && b <= 'z' }
-
-func isDigit(b byte) bool { return '0' <= b && b <= '9' }
+func Name(s string) bool { return names.Is(s) }
 
 // Check is P7.1.
 func Check(o api.Objects) api.Errno {
@@ -41,7 +29,7 @@ func schemasRight(schemas []api.Schema) bool {
 			return false
 		}
 	}
-	return rise(schemas, schemaOrder)
+	return lists.Rise(schemas, schemaOrder)
 }
 
 func tablesRight(o api.Objects) bool {
@@ -55,7 +43,7 @@ func tablesRight(o api.Objects) bool {
 			return false
 		}
 	}
-	return rise(o.Tables, tableOrder)
+	return lists.Rise(o.Tables, tableOrder)
 }
 
 // tableRight answers whether a table is right as far as it can be told without the others.
@@ -68,7 +56,7 @@ func tableRight(t api.Table) bool {
 			return false
 		}
 	}
-	return rise(t.Rules, ruleOrder)
+	return lists.Rise(t.Rules, ruleOrder)
 }
 
 func columnsMayBe(columns []api.Column) bool {
@@ -109,11 +97,11 @@ func fits(r api.Rule, columns []api.Column) bool {
 }
 
 // kindsOf answers the kinds of the columns that are named; none, if one is named twice or is not there.
-func kindsOf(names []string, columns []api.Column) []api.ValueKind {
+func kindsOf(wanted []string, columns []api.Column) []api.ValueKind {
 	var kinds []api.ValueKind
-	for i, name := range names {
+	for i, name := range wanted {
 		at := columnPlace(columns, name)
-		if at == none || slices.Contains(names[:i], name) {
+		if at == none || slices.Contains(wanted[:i], name) {
 			return nil
 		}
 		kinds = append(kinds, columns[at].Kind)
